@@ -1,0 +1,1 @@
+"""Swappedhot: replacing modules of a running program."""

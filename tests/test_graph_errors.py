@@ -170,7 +170,8 @@ class Rows(Wrong):
     )
 
     bad = (
-        (), ("hold",), ("enter",), ("cell",), ("enter", "red"), ("other", "red"), ("red", "red"), ("hold", "h"), ("hold", "h", "a", "a"), ("enter", "a", "a"), ("enter", "h", "a"),
+        (), ("hold",), ("enter",), ("cell",), ("enter", "red"), ("other", "red"), ("red", "red"), ("hold", "h"),
+        ("hold", "h", "a", "a"), ("enter", "a", "a"), ("enter", "h", "a"),
         ("cell", "red", "a"), ("listen", "tick"), ("listenheld", "tick"), ("unlisten",), ("carry",), ("leave", "a"),
         ("hold", "H", "a"), ("hold", "", "a"), ("hold", 1, "a"), ("hold", None, "a"), ("hold", ("h",), "a"),
         ("hold", "h", "main"), ("hold", "h", "c"), ("hold", "h", None), ("hold", "h", ["a"]), ("hold", "h", "h"),
@@ -313,11 +314,11 @@ class Starts(Wrong):
     """The first sources, in ascending order, of which the start exceeds most."""
 
     def test_instances(self):
-        modules = (("a", (PLAIN, edition(("b",)), edition(("b", "c")))), ("b", (PLAIN, edition(("c",)))), ("c", (PLAIN,)))
+        both = edition(("b", "c"))
+        modules = (("a", (PLAIN, edition(("b",)), both)), ("b", (PLAIN, edition(("c",)))), ("c", (PLAIN,)))
         self.right(modules=modules, most=3)
         self.wrong("starts", (1, 1, 0), modules=modules, most=2)
-        self.wrong("starts", (2, 0, 0), modules=(("a", (modules[0][1][0], PLAIN, modules[0][1][2])),) + modules[1:],
-                   most=2)
+        self.wrong("starts", (2, 0, 0), modules=(("a", (PLAIN, PLAIN, both)),) + modules[1:], most=2)
 
     def test_listeners(self):
         row = ("listen", "tick", "b")

@@ -1,4 +1,4 @@
-"""A program while modules are being run in it.
+"""A program while modules are being run and put away in it.
 
 Inside a machine, the instances are named by numbers in the order of their
 births. No number changes and none is used again before the machine is done;
@@ -12,13 +12,13 @@ from swappedhot.states import reached
 class Instance:
     """One run of a module."""
 
-    def __init__(self, module, edition):
+    def __init__(self, module, edition, word, holds, entries):
         self.module = module
         self.edition = edition
-        self.word = None
+        self.word = word
         # A dict keeps the place of a slot that is held again.
-        self.holds = {}
-        self.entries = []
+        self.holds = dict(holds)
+        self.entries = list(entries)
 
     def links(self):
         """Return the numbers of the instances that this one refers to, None among them."""
@@ -42,6 +42,15 @@ class Machine:
         self.listeners = []
         # The words for the cells of modules that are run; a start carries none.
         self.carried = {}
+        # What has happened, as the trace of a step tells it.
+        self.trace = []
+
+    def resume(self, state):
+        """Take over what lives in a state, but not its sources."""
+        _, instances, current, listeners = state
+        self.instances = [Instance(*parts) for parts in instances]
+        self.current = {name: index for name, index in zip(self.graph.names, current)}
+        self.listeners = list(listeners)
 
     def run(self, name):
         """Run a module that has no current instance."""
@@ -49,15 +58,19 @@ class Machine:
         imports, body, _, _ = self.graph.editions(name)[edition]
         number = self.give_birth(name, edition)
         for wanted in imports:
-            if self.current[wanted] is None:
-                self.run(wanted)
+            self.run_if_none(wanted)
         self.do_rows(number, body)
+
+    def run_if_none(self, name):
+        if self.current[name] is None:
+            self.run(name)
 
     def give_birth(self, name, edition):
         """Add an instance, make it the current one of its module and return its number."""
         number = len(self.instances)
-        self.instances.append(Instance(name, edition))
+        self.instances.append(Instance(name, edition, None, (), ()))
         self.current[name] = number
+        self.trace.append(("run", name))
         if len(self.living()) > self.graph.most:
             raise TooMany("instances")
         return number
@@ -98,6 +111,40 @@ class Machine:
         self.listeners.append((number, event, kind, listened))
         if len(self.listeners) > self.graph.most:
             raise TooMany("listeners")
+
+    def put_away(self, name, keeps_data):
+        """Clean up behind the current instance of a module, which then has none any more."""
+        number = self.current[name]
+        cleanup = self.graph.editions(name)[self.instances[number].edition][3]
+        for row in cleanup:
+            if row[0] == "unlisten":
+                self.listeners = [listener for listener in self.listeners if listener[0] != number]
+            elif row[0] == "leave":
+                self.leave(number, row[1])
+            elif keeps_data:
+                self.carry(number)
+        self.current[name] = None
+        self.trace.append(("away", name))
+
+    def leave(self, number, name):
+        host = self.current[name]
+        if host is not None:
+            instance = self.instances[host]
+            instance.entries = [entry for entry in instance.entries if entry != number]
+
+    def carry(self, number):
+        instance = self.instances[number]
+        if instance.word is not None:
+            self.carried[instance.module] = instance.word
+
+    def accept(self, importer, name):
+        """Do the rows with which a module accepts the replacement of an import."""
+        number = self.current[importer]
+        accepts = self.graph.editions(importer)[self.instances[number].edition][2]
+        for item in accepts:
+            if item[0] == name:
+                self.do_rows(number, item[1])
+        self.trace.append(("accept", importer, name))
 
     def as_state(self):
         """Return the state that the program is in."""

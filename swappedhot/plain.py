@@ -23,6 +23,11 @@ def is_tuple(value, fewest, most):
     return isinstance(value, tuple) and fewest <= len(value) <= most
 
 
+def replaced(items, index, item):
+    """Return a tuple in which one item has been replaced."""
+    return items[:index] + (item,) + items[index + 1:]
+
+
 def copied(value):
     """Return an equal value that shares no list and no dict with this one."""
     if isinstance(value, list):

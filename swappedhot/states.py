@@ -1,4 +1,4 @@
-"""The form of sources and states."""
+"""The form of sources and states, and who is current or living in them."""
 
 from swappedhot.plain import is_index, is_name, is_tuple
 
@@ -77,6 +77,12 @@ def is_listener(graph, value, many):
     if kind == "listen":
         return listened in graph.names
     return kind == "listenheld" and is_name(listened)
+
+
+def current_instances(graph, state):
+    """Return a dict of the current instances by module; a module without one is left out."""
+    _, instances, current, _ = state
+    return {name: instances[index] for name, index in zip(graph.names, current) if index is not None}
 
 
 def all_live(instances, current, listeners):

@@ -21,6 +21,15 @@ INTERFACE = {
     },
     "states": {"is_state": "(graph, value)"},
     "running": {"start": "(graph, sources)"},
+    "rules": {"all_rules": "()", "check_rule": "(value)"},
+    "climbing": {"importers": "(graph, state, module)", "climb": "(graph, state, module)"},
+    "swapping": {
+        "is_deed": "(graph, value)",
+        "calls_of": "(graph, state, event)",
+        "Step": None,
+        "step": "(graph, rule, state, deed)",
+    },
+    "judging": {"state_faults": "(graph, state)", "judge": "(graph, rule, state, deed)"},
 }
 
 ALLOWED_BUILTINS = """

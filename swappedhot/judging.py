@@ -1,11 +1,32 @@
 """Faults: how a state differs from a fresh start, and what goes wrong in a deed."""
 
-from swappedhot.errors import TooMany
+from swappedhot.errors import BadFault, BadKinds, TooMany
+from swappedhot.plain import is_tuple
 from swappedhot.running import start
 from swappedhot.states import current_instances
 from swappedhot.swapping import calls_of, step
 
 KINDS = ("behind", "elder", "doubled", "lacking", "more", "astray", "dropped", "reloaded", "crowded")
+
+# The kinds of faults that name no module.
+WHOLE = ("astray", "reloaded", "crowded")
+
+
+def check_fault(graph, value):
+    """Raise BadFault if a value (any value) is not a fault of the graph."""
+    if not is_tuple(value, 2, 2) or value[0] not in KINDS:
+        raise BadFault(value)
+    if value[1] not in (("",) if value[0] in WHOLE else graph.names):
+        raise BadFault(value)
+
+
+def check_kinds(value):
+    """Raise BadKinds if a value (any value) is not a tuple of distinct kinds of faults."""
+    if not is_tuple(value, 0, len(KINDS)):
+        raise BadKinds(value)
+    for index, kind in enumerate(value):
+        if kind not in KINDS or kind in value[:index]:
+            raise BadKinds(value)
 
 
 def state_faults(graph, state):
@@ -15,16 +36,23 @@ def state_faults(graph, state):
 
 def judge(graph, rule, state, deed):
     """Return the list of the faults of a deed and of the state after it."""
+    after, own = outcome(graph, rule, state, deed)
+    # The kinds of faults of deeds stand behind all those of states.
+    return state_faults(graph, after) + own
+
+
+def outcome(graph, rule, state, deed):
+    """Return the state after a deed (if it is refused, the one before) and the faults of the deed itself, in order."""
     try:
         done = step(graph, rule, state, deed)
     except TooMany:
-        return in_order(graph, [("crowded", "")] + differences(graph, state))
-    found = differences(graph, done.state)
-    if deed[0] == "edit" and ("reload",) in done.trace:
-        found.append(("reloaded", ""))
+        return (state, [("crowded", "")])
+    own = []
     if deed[0] in ("edit", "reload"):
-        found += [("dropped", name) for name in dropped(graph, state, done.state)]
-    return in_order(graph, found)
+        own += [("dropped", name) for name in dropped(graph, state, done.state)]
+    if deed[0] == "edit" and ("reload",) in done.trace:
+        own.append(("reloaded", ""))
+    return (done.state, own)
 
 
 def in_order(graph, found):
@@ -33,7 +61,7 @@ def in_order(graph, found):
 
 
 def dropped(graph, before, after):
-    """Return the modules whose current instances before and after a deed have different words."""
+    """Return the modules, in order, whose current instances before and after a deed have different words."""
     old, new = current_words(graph, before), current_words(graph, after)
     return [name for name in old if name in new and old[name] != new[name]]
 

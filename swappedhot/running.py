@@ -12,3 +12,8 @@ def start(graph, sources):
     machine = Machine(graph, sources)
     machine.run(graph.top)
     return machine.as_state()
+
+
+def first_state(graph):
+    """Return the start of the sources that consist of zeros."""
+    return start(graph, (0,) * len(graph))

@@ -31,6 +31,13 @@ def is_deed(graph, value):
     return word == "set" and what in graph.words
 
 
+def are_deeds(graph, value):
+    """Tell whether a value (any value) is a tuple of at least one deed of the graph."""
+    if not isinstance(value, tuple) or len(value) == 0:
+        return False
+    return all([is_deed(graph, deed) for deed in value])
+
+
 def step(graph, rule, state, deed):
     """Do a deed and return its Step."""
     check_rule(rule)

@@ -1,7 +1,11 @@
 """Drawn graphs, states and deeds; the same seed draws the same ones on every machine."""
 
-from swappedhot.errors import InvalidGraph, TooMany
+import random
+
+from swappedhot.books import Book
+from swappedhot.errors import InvalidGraph, TooMany, TooManyStates
 from swappedhot.graphs import Graph
+from swappedhot.rules import all_rules
 from swappedhot.running import start
 from swappedhot.states import is_state
 from swappedhot.swapping import step
@@ -125,3 +129,17 @@ def without_dead(state):
                    for at, (module, number, word, holds, entries) in enumerate(instances) if at in alive]),
             tuple([place[index] for index in current]),
             tuple([(place[owner], event, kind, what) for owner, event, kind, what in listeners]))
+
+
+def books(seed, many, fewest=2, most=60):
+    """Graphs, rules and flags whose books have so few states."""
+    chance = random.Random(seed)
+    found = []
+    while len(found) < many:
+        graph, rule, sets = draw_graph(chance), chance.choice(all_rules()), chance.random() < 0.5
+        try:
+            if len(Book(graph, rule, sets=sets, limit=most)) >= fewest:
+                found.append((graph, rule, sets))
+        except TooManyStates:
+            continue
+    return found

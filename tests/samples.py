@@ -3,6 +3,7 @@
 import unittest
 
 from swappedhot.graphs import Graph
+from swappedhot.judging import KINDS
 from swappedhot.rules import all_rules
 from swappedhot.running import start
 from swappedhot.states import is_state
@@ -57,6 +58,23 @@ def leaving():
     return Graph(("red",), (), (main, util, host), "main")
 
 
+def listening():
+    """Each edit of a leads to one more listener, until the third one is refused."""
+    main = edition(("a",), (), (("a", (("listen", "tick", "a"),)),))
+    return program(most=2, main=(main,), a=(PLAIN, PLAIN))
+
+
+def celled(*many):
+    """A graph of modules with so many editions, each with a cell for three words.
+
+    As nothing is accepted, under "reload" every combination of editions and words is a state of its book.
+    """
+    names = ("main", "a", "b", "c")[:len(many)]
+    main = edition(names[1:], (("cell", "red"),))
+    modules = [(name, (main if name == "main" else RED,) * number) for name, number in zip(names, many)]
+    return Graph(("red", "blue", "green"), (), tuple(modules), "main")
+
+
 def nested(shape, depth):
     """A value of lists, tuples or dicts that is nested so deep."""
     value = 1
@@ -74,6 +92,42 @@ def any_values():
         ("main",), ["main"], ("a", "b"), (0, 0, 0, 0), ((), (), (), ()), [(), (), (), ()],
         nested("list", 20), nested("tuple", 20), nested("dict", 20),
     ]
+
+
+def limit_values():
+    """Values that are no limits."""
+    return [value for value in any_values() if repr(value) not in ("1", "5", repr(10 ** 3999))] + [-5, "1", (1,), [1]]
+
+
+def fault_values(graph):
+    """All faults of a graph, and values that are none."""
+    whole = ("astray", "reloaded", "crowded")
+    right = [(kind, name) for kind in KINDS if kind not in whole for name in graph.names]
+    right += [(kind, "") for kind in whole]
+    wrong = any_values() + [(kind, "") for kind in KINDS if kind not in whole]
+    wrong += [(kind, name) for kind in whole for name in graph.names]
+    wrong += [list(fault) for fault in right] + [fault + ("",) for fault in right] + [fault[:1] for fault in right]
+    wrong += [("behind", "nobody"), ("Behind", graph.top), ("", ""), ("", graph.top), (graph.top, "behind"), "astray",
+              ("astray", None), ("astray", ()), ("behind", (graph.top,)), ("behind", 0), (("behind",), graph.top)]
+    wrong += [(value, graph.top) for value in any_values()] + [("behind", value) for value in any_values()
+                                                               if value not in graph.names]
+    return right, wrong
+
+
+def kinds_values():
+    """Values that are no kinds."""
+    wrong = [value for value in any_values() if value != ()]
+    wrong += [list(KINDS), [], ["behind"], ("behind", "behind"), KINDS + ("behind",), ("behind", "elder", "behind"),
+              ("Behind",), ("behind", ""), ("",), (("behind",),), ("behind", ["elder"]), {"behind": 1}, "behind",
+              ("behind", "main"), (("behind", "main"),)]
+    return wrong + [("behind", value) for value in any_values()]
+
+
+def with_true(value):
+    """The value in which False and True stand in the places of 0 and 1; it is equal, but it is another one."""
+    if isinstance(value, tuple):
+        return tuple([with_true(item) for item in value])
+    return bool(value) if value in (0, 1) else value
 
 
 def rules(*words):

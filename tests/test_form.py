@@ -30,7 +30,49 @@ INTERFACE = {
         "step": "(graph, rule, state, deed)",
     },
     "judging": {"state_faults": "(graph, state)", "judge": "(graph, rule, state, deed)"},
+    "live": {
+        "Live": {
+            "__init__": "(self, graph, rule, *, state=None)",
+            "do": "(self, deed)",
+            "use": "(self, rule)",
+            "edit": "(self, module, edition)",
+            "fire": "(self, event)",
+            "reload": "(self)",
+            "preview": "(self, deeds)",
+            "undo": "(self)",
+            "fork": "(self)",
+            "faults": "(self)",
+            "__getitem__": None, "__setitem__": None, "__iadd__": None, "__len__": None, "__contains__": None,
+        },
+    },
+    "books": {
+        "Book": {
+            "__init__": "(self, graph, rule, *, sets=True, limit=2000)",
+            "states": "(self)",
+            "number": "(self, state)",
+            "deeds": "(self)",
+            "target": "(self, k, d)",
+            "faults": "(self, k, d)",
+            "edges": "(self)",
+            "route": "(self, k)",
+            "found": "(self)",
+            "least_run": "(self, fault)",
+            "__len__": None, "__contains__": None,
+        },
+    },
+    "counting": {"count_runs": "(book, kinds, length)", "distances": "(book)"},
+    "verdicts": {
+        "verdict": "(graph, rule, fault, *, sets=True, limit=2000)",
+        "check_run": "(graph, rule, fault, deeds)",
+        "check_closed": "(graph, rule, fault, states, *, sets=True)",
+    },
 }
+
+# The functions and methods that operators, len and comparisons run; they change nothing.
+QUIET = """
+    __eq__ __len__ __contains__ __getitem__ check_module current_instances number is_state is_sources is_instance
+    fits_cell are_holds is_current is_listener all_live links_of reached is_index is_integer is_name is_tuple editions
+""".split()
 
 ALLOWED_BUILTINS = """
     len range enumerate zip min max sum abs sorted reversed int str bool bytes list tuple dict set frozenset isinstance
@@ -167,6 +209,34 @@ class Form(unittest.TestCase):
                     self.assertFalse(node.arg in taken or hasattr(builtins, node.arg), (name, node.arg))
                 if isinstance(node, ast.Name) and isinstance(node.ctx, ast.Store):
                     self.assertFalse(node.id in taken or hasattr(builtins, node.id), (name, node.id))
+
+    def test_what_operators_run_changes_nothing(self):
+        found = {node.name: node for _, node in self.nodes(ast.FunctionDef)}
+        for name in QUIET:
+            for node in ast.walk(found[name]):
+                self.assertNotIsInstance(node, (ast.AugAssign, ast.Delete), name)
+                if isinstance(node, ast.Attribute):
+                    self.assertIsInstance(node.ctx, ast.Load, name)
+
+    def test_generators_have_names_of_their_own(self):
+        generators = [node.name for _, node in self.nodes(ast.FunctionDef)
+                      if any([isinstance(each, (ast.Yield, ast.YieldFrom)) for each in ast.walk(node)])]
+        self.assertEqual(generators, ["edges"])
+        self.assertEqual([node.name for _, node in self.nodes(ast.FunctionDef)].count("edges"), 1)
+        for name, node in self.nodes(ast.Name):
+            self.assertNotEqual(node.id, "edges", name)
+
+    def test_no_class_has_a_method_and_an_attribute_of_one_name(self):
+        methods, attributes = {}, {}
+        for name, tree in self.trees.items():
+            for kind in [node for node in tree.body if isinstance(node, ast.ClassDef)]:
+                methods[kind.name] = [node.name for node in kind.body if isinstance(node, ast.FunctionDef)]
+                self.assertEqual(len(methods[kind.name]), len(set(methods[kind.name])), kind.name)
+                attributes[kind.name] = [node.attr for node in ast.walk(kind)
+                                         if isinstance(node, ast.Attribute) and isinstance(node.ctx, ast.Store)]
+        for kind, names in methods.items():
+            for other, taken in attributes.items():
+                self.assertFalse(set(names) & set(taken), (kind, other))
 
     def test_functions_have_no_decorators_and_annotations(self):
         for name, node in self.nodes(ast.FunctionDef):

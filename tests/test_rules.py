@@ -3,10 +3,13 @@
 import copy
 import unittest
 
+from swappedhot.books import Book
 from swappedhot.errors import BadDeed, InvalidRule
 from swappedhot.judging import judge
+from swappedhot.live import Live
 from swappedhot.rules import all_rules, check_rule
 from swappedhot.swapping import step
+from swappedhot.verdicts import check_closed, check_run, verdict
 from tests.samples import any_values, example, zeros
 
 
@@ -34,12 +37,29 @@ class AllRules(unittest.TestCase):
 
 
 class CheckRule(unittest.TestCase):
+    def calls(self, graph, rule):
+        """Everything that takes a rule; what else is passed is wrong wherever it can be."""
+        live = Live(graph, all_rules()[0])
+        return (
+            lambda: check_rule(rule),
+            lambda: step(graph, rule, zeros(graph), ("reload",)),
+            lambda: step(graph, rule, zeros(graph), "no deed"),
+            lambda: judge(graph, rule, zeros(graph), ("reload",)),
+            lambda: judge(graph, rule, zeros(graph), "no deed"),
+            lambda: Live(graph, rule),
+            lambda: Live(graph, rule, state="no state"),
+            lambda: live.use(rule),
+            lambda: Book(graph, rule),
+            lambda: Book(graph, rule, limit=0),
+            lambda: verdict(graph, rule, ("astray", "")),
+            lambda: verdict(graph, rule, "no fault", limit=0),
+            lambda: check_run(graph, rule, "no fault", "no deeds"),
+            lambda: check_closed(graph, rule, "no fault", "no states"),
+        )
+
     def wrong(self, value, path):
         before = copy.deepcopy(value)
-        graph = example()
-        for call in (lambda: check_rule(value),
-                     lambda: step(graph, value, zeros(graph), ("reload",)),
-                     lambda: judge(graph, value, zeros(graph), ("reload",))):
+        for call in self.calls(example(), value):
             with self.assertRaises(InvalidRule) as caught:
                 call()
             self.assertEqual(caught.exception.path, path, value)

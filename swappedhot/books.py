@@ -29,13 +29,13 @@ class Book:
         self.search = Search(first_state(graph), limit)
         # For each state and each deed, the number of the state after it and the faults of the deed itself.
         self.outcomes = []
-        while len(self.outcomes) < len(self.search.places):
+        while len(self.outcomes) < len(self.search.nodes):
             self.outcomes.append(self.outcomes_from(len(self.outcomes)))
-        self.judged = [state_faults(graph, state) for state in self.search.places]
+        self.judged = [state_faults(graph, state) for state in self.search.nodes]
 
     def outcomes_from(self, k):
         """Do all deeds in a state, and number the states that are new."""
-        state = self.search.places[k]
+        state = self.search.nodes[k]
         row = []
         for deed in self.listing:
             after, own = outcome(self.graph, self.rule, state, deed)
@@ -44,7 +44,7 @@ class Book:
 
     def states(self):
         """Return the list of the states by number."""
-        return list(self.search.places)
+        return list(self.search.nodes)
 
     def number(self, state):
         """Return the number of a state (any value), or None if it is not in the book."""

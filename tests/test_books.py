@@ -11,7 +11,7 @@ from swappedhot.rules import all_rules
 from swappedhot.states import is_state
 from swappedhot.swapping import step
 from tests import drawn
-from tests.samples import (PLAIN, RED, accepting, any_values, celled, edition, example, fault_values, limit_values,
+from tests.samples import (PLAIN, RED, any_values, celled, edition, example, fault_values, limit_values,
                            listening, program, rules, with_true, zeros)
 from tests.slow import SlowBook
 

@@ -66,6 +66,26 @@ INTERFACE = {
         "check_run": "(graph, rule, fault, deeds)",
         "check_closed": "(graph, rule, fault, states, *, sets=True)",
     },
+    "alike": {
+        "rules_alike": "(graph, first, second, *, sets=True, limit=2000)",
+        "check_alike": "(graph, first, second, pairs, *, sets=True)",
+        "check_unlike": "(graph, first, second, deeds)",
+    },
+    "healing": {
+        "choices": "(graph)",
+        "with_accepts": "(graph, added)",
+        "least_accepts": "(graph, rule, kinds, chosen, *, sets=True, limit=500)",
+        "places": "(graph)",
+        "without_cleanup": "(graph, place)",
+        "needless": "(graph, rule, kinds, *, sets=True, limit=500)",
+    },
+    "texts": {
+        "write_graph": "(graph)",
+        "read_graph": "(text)",
+        "write_deeds": "(deeds)",
+        "read_deeds": "(text)",
+    },
+    "desk": {"Desk": {"__init__": "(self, graph, rule)", "__call__": "(self, line)", "__ior__": None}},
 }
 
 # The functions and methods that operators, len and comparisons run; they change nothing.

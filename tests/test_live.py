@@ -174,11 +174,13 @@ class Doing(Tests):
     def test_edit(self):
         live = Live(example(), LOST)
         self.assertIsNone(live.edit("host", 1))
-        self.assertEqual((live.done, live.state), ((BLUE_HOST,), step(example(), LOST, zeros(example()), BLUE_HOST).state))
+        wanted = step(example(), LOST, zeros(example()), BLUE_HOST).state
+        self.assertEqual((live.done, live.state), ((BLUE_HOST,), wanted))
         self.assertIsNone(live.edit("host", 1))
         self.assertEqual(live.done, (BLUE_HOST,) * 2)
         for value in any_values():
-            self.unchanged(live, BadDeed, lambda: live.edit(value, 0), deed=("edit", value, 0)) if value != "main" else 0
+            if value != "main":
+                self.unchanged(live, BadDeed, lambda: live.edit(value, 0), deed=("edit", value, 0))
             if repr(value) not in ("0", "1"):
                 self.unchanged(live, BadDeed, lambda: live.edit("host", value), deed=("edit", "host", value))
 

@@ -3,8 +3,11 @@
 import copy
 import unittest
 
+from swappedhot.alike import check_alike, check_unlike, rules_alike
 from swappedhot.books import Book
+from swappedhot.desk import Desk
 from swappedhot.errors import BadDeed, InvalidRule
+from swappedhot.healing import least_accepts, needless
 from swappedhot.judging import judge
 from swappedhot.live import Live
 from swappedhot.rules import all_rules, check_rule
@@ -55,6 +58,18 @@ class CheckRule(unittest.TestCase):
             lambda: verdict(graph, rule, "no fault", limit=0),
             lambda: check_run(graph, rule, "no fault", "no deeds"),
             lambda: check_closed(graph, rule, "no fault", "no states"),
+            lambda: rules_alike(graph, rule, all_rules()[0]),
+            lambda: rules_alike(graph, rule, "no rule", limit=0),
+            lambda: rules_alike(graph, all_rules()[0], rule, limit=0),
+            lambda: check_alike(graph, rule, "no rule", "no pairs"),
+            lambda: check_alike(graph, all_rules()[0], rule, "no pairs"),
+            lambda: check_unlike(graph, rule, "no rule", "no deeds"),
+            lambda: check_unlike(graph, all_rules()[0], rule, "no deeds"),
+            lambda: least_accepts(graph, rule, (), ()),
+            lambda: least_accepts(graph, rule, "no kinds", "no choices", limit=0),
+            lambda: needless(graph, rule, ()),
+            lambda: needless(graph, rule, "no kinds", limit=0),
+            lambda: Desk(graph, rule),
         )
 
     def wrong(self, value, path):

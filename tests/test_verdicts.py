@@ -12,8 +12,8 @@ from swappedhot.states import is_state
 from swappedhot.swapping import step
 from swappedhot.verdicts import check_closed, check_run, verdict
 from tests import drawn
-from tests.samples import (PLAIN, RED, any_values, edition, example, fault_values, leaving, limit_values, listening,
-                           program, with_true, zeros)
+from tests.samples import (PLAIN, RED, any_values, celled, edition, example, fault_values, leaving, limit_values,
+                           listening, program, with_true, zeros)
 from tests.slow import SlowBook, after
 
 LOST = ("near", "again", "lost")
@@ -196,7 +196,8 @@ class CheckClosed(unittest.TestCase):
         self.assertIs(check_closed(graph, LOST, ("behind", "host"), states, sets=False), True)
         self.assertIs(check_closed(graph, LOST, ("behind", "host"), states, sets=True), False)
         self.assertIs(check_closed(graph, LOST, ("behind", "host"), states), False)
-        self.assertIs(check_closed(graph, LOST, ("behind", "host"), tuple(Book(graph, LOST).states()), sets=False), True)
+        states = tuple(Book(graph, LOST).states())
+        self.assertIs(check_closed(graph, LOST, ("behind", "host"), states, sets=False), True)
 
     def test_any_value(self):
         graph = example()
@@ -257,6 +258,15 @@ class Errors(unittest.TestCase):
                 with self.assertRaises(TooManyStates) as caught:
                     verdict(graph, rule, fault, sets=sets, limit=many - 1)
                 self.assertEqual(caught.exception.limit, many - 1)
+
+    def test_the_limit_if_none_is_named(self):
+        rule = ("near", "reload", "kept")
+        kind, states = verdict(celled(2, 3, 2, 2), rule, ("behind", "a"))
+        self.assertEqual((kind, len(states)), ("closed", 1944))
+        for fault in (("behind", "a"), ("reloaded", "")):
+            with self.assertRaises(TooManyStates) as caught:
+                verdict(celled(1, 3, 3, 3), rule, fault)
+            self.assertEqual(caught.exception.limit, 2000)
 
     def test_the_order(self):
         bad = ("near", "near", "lost")

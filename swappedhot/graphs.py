@@ -28,9 +28,10 @@ class Graph:
 
     def editions(self, name):
         """Return the tuple of the editions of a module."""
-        if name not in self.names:
-            raise NoModule(name)
-        return self.modules[self.names.index(name)][1]
+        for other, editions in self.modules:
+            if other == name:
+                return editions
+        raise NoModule(name)
 
     def all_sources(self):
         """Return the list of all sources in ascending order."""

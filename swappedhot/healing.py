@@ -4,7 +4,7 @@ from swappedhot.books import Book
 from swappedhot.errors import BadChoice, NoPlace
 from swappedhot.graphs import Graph
 from swappedhot.judging import check_kinds
-from swappedhot.plain import is_index, is_tuple, replaced
+from swappedhot.plain import is_index, is_tuple, position, replaced
 from swappedhot.rules import check_rule
 
 
@@ -104,7 +104,7 @@ def without_cleanup(graph, place):
     cleanup = edition[3]
     changed = replaced(edition, 3, cleanup[:index] + cleanup[index + 1:])
     editions = replaced(graph.editions(name), number, changed)
-    return with_modules(graph, replaced(graph.modules, graph.names.index(name), (name, editions)))
+    return with_modules(graph, replaced(graph.modules, position(graph.names, name), (name, editions)))
 
 
 def check_place(graph, value):

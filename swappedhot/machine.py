@@ -6,6 +6,7 @@ as_state() forgets the instances that are not living and renumbers the others.
 """
 
 from swappedhot.errors import TooMany
+from swappedhot.plain import position
 from swappedhot.states import reached
 
 
@@ -54,7 +55,7 @@ class Machine:
 
     def run(self, name):
         """Run a module that has no current instance."""
-        edition = self.sources[self.graph.names.index(name)]
+        edition = self.sources[position(self.graph.names, name)]
         imports, body, _, _ = self.graph.editions(name)[edition]
         number = self.give_birth(name, edition)
         for wanted in imports:

@@ -23,6 +23,12 @@ def is_tuple(value, fewest, most):
     return isinstance(value, tuple) and fewest <= len(value) <= most
 
 
+def position(items, wanted):
+    """Return the number of the first one of the items that equals a value; there is such an item."""
+    # Not items.index(..): operators lead here, they may call nothing that an object holds, and errors hold an index.
+    return [number for number, item in enumerate(items) if item == wanted][0]
+
+
 def replaced(items, index, item):
     """Return a tuple in which one item has been replaced."""
     return items[:index] + (item,) + items[index + 1:]

@@ -3,7 +3,7 @@
 from swappedhot.climbing import climb
 from swappedhot.errors import BadDeed
 from swappedhot.machine import Machine
-from swappedhot.plain import is_index, is_tuple, replaced
+from swappedhot.plain import is_index, is_tuple, position, replaced
 from swappedhot.rules import check_rule
 from swappedhot.states import current_instances
 
@@ -54,7 +54,7 @@ def step(graph, rule, state, deed):
 
 def edit(graph, rule, state, module, number):
     """Make an edition the source of its module and bring it into the program."""
-    place = graph.names.index(module)
+    place = position(graph.names, module)
     if state[0][place] == number:
         return Step(state, (), ())
     sources = replaced(state[0], place, number)
@@ -96,7 +96,7 @@ def reload(graph, sources):
 def with_word(graph, state, module, word):
     """Return the state in which the cell of a module, if there is one, has a word."""
     sources, instances, current, listeners = state
-    index = current[graph.names.index(module)]
+    index = current[position(graph.names, module)]
     if index is None or instances[index][2] is None:
         return state
     changed = replaced(instances[index], 2, word)
